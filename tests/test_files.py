@@ -1,0 +1,85 @@
+"""Those rules of LANGUAGE.md that can be seen in a file's text and tree."""
+
+import ast
+import pathlib
+import re
+import unittest
+
+PACKAGE = pathlib.Path(__file__).resolve().parent.parent / "ripepicks"
+BARRED = ["type", "typing", "typing_extensions", "enum", "Enum", "IntEnum", "StrEnum", "Flag", "IntFlag", "Generic",
+          "Protocol", "ABC", "ABCMeta", "namedtuple", "NamedTuple", "TypedDict", "TYPE_CHECKING", "abstractmethod"]
+BUILTINS = {"len", "range", "enumerate", "zip", "min", "max", "sum", "abs", "sorted", "reversed", "int", "str", "bool",
+            "list", "tuple", "dict", "set", "isinstance", "ord", "repr", "any", "all", "divmod", "iter", "next", "super",
+            "ValueError", "LookupError", "RuntimeError", "TypeError", "KeyError"}
+
+
+def files():
+    """Pairs (file's name, its text)."""
+    return [(path.name, path.read_bytes().decode()) for path in sorted(PACKAGE.glob("*.py"))]
+
+
+def nodes():
+    """Pairs (file's name, node), of all nodes of all files."""
+    return [(name, node) for name, text in files() for node in ast.walk(ast.parse(text))]
+
+
+class Files(unittest.TestCase):
+    def test_folder(self):
+        there = [path.name for path in PACKAGE.iterdir() if path.name != "__pycache__"]
+        self.assertIn("__init__.py", there)
+        self.assertEqual([name for name in there if not re.fullmatch("[a-z0-9_]+[.]py", name)], [])
+
+    def test_sizes_and_characters(self):
+        for name, text in files():
+            self.assertRegex(text, r"\A[\n -~]*\Z", name)
+            self.assertLessEqual(len(text.splitlines()), 400, name)
+            self.assertLessEqual(max(map(len, text.splitlines())), 120, name)
+        for name, node in nodes():
+            if isinstance(node, ast.FunctionDef):
+                self.assertLessEqual(node.end_lineno - node.lineno + 1, 40, (name, node.name))
+
+    def test_barred_words(self):
+        for name, text in files():
+            self.assertEqual([word for word in BARRED if re.search(rf"\b{word}\b", text)], [], name)
+            self.assertNotRegex(text, "dataclass|overload|contextmanager", name)
+
+    def test_module_level(self):
+        allowed = (ast.ImportFrom, ast.FunctionDef, ast.ClassDef, ast.Assign)
+        for name, text in files():
+            docstring, *rest = ast.parse(text).body
+            self.assertIsInstance(docstring.value, ast.Constant, name)
+            self.assertEqual([node for node in rest if not isinstance(node, allowed)], [], name)
+
+    def test_imports(self):
+        for name, node in nodes():
+            self.assertNotIsInstance(node, ast.Import, name)
+            if isinstance(node, ast.ImportFrom):
+                self.assertEqual(node.level, 0, name)
+                self.assertRegex(node.module, r"\Aripepicks[.][a-z]+\Z", name)
+                defined = ast.parse((PACKAGE.parent / (node.module.replace(".", "/") + ".py")).read_text()).body
+                self.assertLessEqual({each.name for each in node.names}, {getattr(each, "name", None) for each in defined})
+
+    def test_names(self):
+        for name, node in nodes():
+            if isinstance(node, ast.Name):
+                self.assertRegex(node.id, r"\A[A-Za-z]", name)
+                if node.id in BUILTINS:
+                    self.assertIsInstance(node.ctx, ast.Load, name)
+            if isinstance(node, ast.arg):
+                self.assertRegex(node.arg, r"\A[A-Za-z]", name)
+                self.assertNotIn(node.arg, BUILTINS, name)
+
+    def test_no_barred_syntax(self):
+        # Generator expressions are let go beside a class with __eq__ only in few places: none is used.
+        barred = (ast.GeneratorExp, ast.Global, ast.AsyncFunctionDef, ast.Await, ast.Div, ast.Pow, ast.AnnAssign)
+        for name, node in nodes():
+            self.assertNotIsInstance(node, barred, name)
+            if isinstance(node, ast.Constant):
+                self.assertNotIsInstance(node.value, (float, complex), name)
+                self.assertNotIn("%", str(node.value), name)
+            if isinstance(node, ast.ExceptHandler):
+                self.assertIsNotNone(node.type, name)
+
+
+if __name__ == "__main__":
+    unittest.main()
