@@ -64,7 +64,7 @@ def met_by(lots):
 def met_too(found, lot, at, met):
     """Of the least ones that meet all LOTs ahead of this place: those that meet the LOT there, too.
 
-    No two of them come out alike: one that is made longer is met with the LOT by its last NAME alone.
+    No two of them come out alike: one that is made longer shares its last NAME alone with the LOT.
     """
     upto = (1 << (at + 1)) - 1
     longer = []
