@@ -71,6 +71,12 @@ def lots_of(orchard, fruit):
     raise NoFruit(fruit)
 
 
+def refuse_unknown(orchard, fruit):
+    """NoFruit."""
+    if fruit not in fruits_of(orchard):
+        raise NoFruit(fruit)
+
+
 def is_ripe(orchard, fruit, gone):
     """Whether the fruit is ripe by those that are gone; NoFruit."""
     return has_one_within(lots_of(orchard, fruit), gone)

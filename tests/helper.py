@@ -2,6 +2,7 @@
 
 import copy
 import itertools
+import random
 
 
 def subsets(names):
@@ -43,6 +44,74 @@ def random_rows(rng, names, most_lots, most_names):
     return rows
 
 
+def coming_rows(rng, names, most_lots, most_names):
+    """The same, but most fruits have a LOT of such that can go ahead of them, so that most come, in many orders."""
+    order = rng.sample(names, len(names))
+    rows = []
+    for at, fruit in enumerate(order):
+        ahead = order[:at] if rng.random() < 0.9 else order[:at] + order[at + 1:]
+        sizes = [rng.randint(0 if at < 2 else 1, min(most_names, len(ahead))) if ahead else 0
+                 for lot in range(rng.randint(1, most_lots))]
+        rows.append((fruit, [rng.sample(ahead, size) for size in sizes]))
+    return rng.sample(rows, len(rows))
+
+
+def plain_orchard(rows):
+    """The ORCHARD of the pairs."""
+    return tuple(sorted((fruit, tuple(plain_least(lots))) for fruit, lots in rows))
+
+
+def all_orchards(names):
+    """All ORCHARDs of these fruits."""
+    ways = []
+    for name in sorted(names):
+        others = [each for each in names if each != name]
+        ways.append([(name, tuple(family)) for family in map(sorted, families(others)) if plain_least(family) == family])
+    return list(itertools.product(*ways))
+
+
+def small_orchards(seed, many):
+    """All ORCHARDs of at most three fruits, and so many of four and five."""
+    rng = random.Random(seed)
+    found = [orchard for size in range(4) for orchard in all_orchards("abc"[:size])]
+    for round_ in range(many):
+        names = ["a", "b", "cc", "d", "zz"][:rng.randint(4, 5)]
+        rows = rng.choice([random_rows, coming_rows, coming_rows])(rng, names, 3, 3)
+        found.append(plain_orchard(rows))
+    return found
+
+
+def fruits_in(orchard):
+    """Its fruits."""
+    return [fruit for fruit, lots in orchard]
+
+
+def ready_by(orchard, gone):
+    """The fruits that are ripe by these and not among them."""
+    return [fruit for fruit, lots in orchard if fruit not in gone and plain_ripe(lots, gone)]
+
+
+def all_rows(orchard, gone=()):
+    """All rows, as lists rise, that begin with those that are gone."""
+    ready = ready_by(orchard, gone)
+    if not ready:
+        return [list(gone)]
+    return [row for fruit in ready for row in all_rows(orchard, (*gone, fruit))]
+
+
+def plain_pick(orchard, liking):
+    """The row: of those that are ripe the best liked goes."""
+    row = []
+    while ready := ready_by(orchard, row):
+        row.append(next(fruit for fruit in liking if fruit in ready))
+    return row
+
+
+def all_likings(orchard):
+    """All LIKINGs, as tuples rise."""
+    return list(itertools.permutations(fruits_in(orchard)))
+
+
 def in_lists(thing):
     """The same with lists for tuples, at any depth."""
     return [in_lists(each) for each in thing] if isinstance(thing, (list, tuple)) else thing
@@ -76,23 +145,54 @@ def any_things():
 
 
 def check_manners(case, function, given):
-    """By place, by name, with lists and with tuples the same is told; nothing handed in is changed or kept."""
+    """By place, by name, with lists and with tuples (but in thing) the same is told, each time the asker's own.
+
+    Nothing that is handed in is changed or kept. What is handed in is emptied behind.
+    """
     before = copy.deepcopy(given)
     told = function(**given)
     kept = copy.deepcopy(told)
     for other in (in_lists, in_tuples):
-        turned = {word: thing if isinstance(thing, dict) else other(thing) for word, thing in given.items()}
+        turned = {word: thing if word == "thing" or isinstance(thing, dict) else other(thing)
+                  for word, thing in given.items()}
         untouched = copy.deepcopy(turned)
-        case.assertEqual(function(**turned), kept)
-        case.assertEqual(function(*turned.values()), kept)
-        case.assertEqual(turned, untouched)
-    case.assertEqual(given, before)
-    if isinstance(told, list):
-        told.append("changed")
-        case.assertIsNot(function(**given), function(**given))
-    case.assertEqual(function(**given), kept)
+        check_same(case, function(**turned), kept)
+        check_same(case, function(*turned.values()), kept)
+        check_same(case, turned, untouched)
+    check_same(case, given, before)
+    again = function(**given)
+    lists = [*lists_in(told), *lists_in(again), *lists_in(list(given.values()))]
+    case.assertEqual(len({id(each) for each in lists}), len(lists))
+    spoil([told])
+    check_same(case, again, kept)
     spoil(given)
-    case.assertEqual(function(**before), kept)
+    check_same(case, again, kept)
+    check_same(case, function(**before), kept)
+
+
+def check_same(case, told, due):
+    """The same, and of the same kind at any depth: a list is no tuple, True is no number."""
+    case.assertEqual(repr(told), repr(due))
+
+
+def check_refused(case, error, what, function, given):
+    """Refused with the error's very class and what, by place and by name, with lists and with tuples; all unchanged."""
+    for other in (copy.deepcopy, in_lists, in_tuples):
+        turned = {word: other(thing) for word, thing in given.items()}
+        untouched = copy.deepcopy(turned)
+        due = other(what)
+        for ask in (lambda: function(**turned), lambda: function(*turned.values())):
+            with case.assertRaises(error) as caught:
+                ask()
+            case.assertIs(type(caught.exception), error)
+            check_same(case, caught.exception.what, due)
+            check_same(case, turned, untouched)
+
+
+def lists_in(thing):
+    """All lists in it, itself too, each as often as it's there."""
+    inner = [each for part in thing for each in lists_in(part)] if isinstance(thing, (list, tuple)) else []
+    return [thing, *inner] if isinstance(thing, list) else inner
 
 
 def spoil(thing):

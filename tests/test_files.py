@@ -69,6 +69,37 @@ class Files(unittest.TestCase):
                 self.assertRegex(node.arg, r"\A[A-Za-z]", name)
                 self.assertNotIn(node.arg, BUILTINS, name)
 
+    def test_no_local_name_is_an_import_or_a_class(self):
+        for name, text in files():
+            tree = ast.parse(text)
+            imported = {each.name for node in tree.body if isinstance(node, ast.ImportFrom) for each in node.names}
+            bound = imported | {node.name for node in tree.body if isinstance(node, ast.ClassDef)}
+            taken = {node.id for node in ast.walk(tree) if isinstance(node, ast.Name) and isinstance(node.ctx, ast.Store)}
+            taken |= {node.arg for node in ast.walk(tree) if isinstance(node, ast.arg)}
+            self.assertEqual(bound & taken, set(), name)
+            self.assertEqual([word for word in imported if len(re.findall(rf"\b{word}\b", text)) < 2], [], name)
+
+    def test_no_file_imports_itself_through_others(self):
+        imports = {}
+        for name, node in nodes():
+            if isinstance(node, ast.ImportFrom):
+                imports.setdefault(name, set()).add(node.module.partition(".")[2] + ".py")
+        for name in imports:
+            reached = set(imports[name])
+            while more := {each for step in reached for each in imports.get(step, ())} - reached:
+                reached |= more
+            self.assertNotIn(name, reached)
+
+    def test_no_method_is_an_attribute(self):
+        methods = {each.name for name, node in nodes() if isinstance(node, ast.ClassDef) for each in node.body
+                   if isinstance(each, ast.FunctionDef)}
+        stored = {node.attr for name, node in nodes() if isinstance(node, ast.Attribute) and isinstance(node.ctx, ast.Store)}
+        self.assertEqual(methods & stored, set())
+
+    def test_one_lambda_a_line(self):
+        places = [(name, node.lineno) for name, node in nodes() if isinstance(node, ast.Lambda)]
+        self.assertEqual(len(set(places)), len(places))
+
     def test_no_barred_syntax(self):
         # Generator expressions are let go beside a class with __eq__ only in few places: none is used.
         barred = (ast.GeneratorExp, ast.Global, ast.AsyncFunctionDef, ast.Await, ast.Div, ast.Pow, ast.AnnAssign)

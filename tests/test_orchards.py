@@ -8,8 +8,8 @@ import unittest
 from ripepicks.errors import BadFruit, BadLot, NoFruit, Twice
 from ripepicks.lots import meeting
 from ripepicks.orchards import called, gone_from, is_orchard, is_ripe, lots_of, made, ripe, side_by_side
-from tests.helper import (all_nested, any_things, check_manners, families, in_lists, in_tuples, plain_least, plain_ripe,
-                          random_rows, subsets)
+from tests.helper import (all_nested, any_things, check_manners, families, in_lists, in_tuples, plain_least, plain_orchard,
+                          plain_ripe, random_rows, subsets)
 
 # The fig from the first on, the kaki never, the lime by the fig, the pear by fig and lime or by the kaki.
 GROVE = (("fig", ((),)), ("kaki", ()), ("lime", (("fig",),)), ("pear", (("fig", "lime"), ("kaki",))))
@@ -21,11 +21,6 @@ def grove_rows():
     """What made takes for GROVE, out of order, with LOTs that aren't least and that stand twice."""
     return [("pear", [["lime", "fig"], ["kaki"], ["lime", "kaki"], ["kaki"]]), ("lime", [["fig"]]), ("kaki", []),
             ("fig", [["pear", "kaki"], []])]
-
-
-def plain_made(rows):
-    """The ORCHARD of the pairs."""
-    return tuple(sorted((fruit, tuple(plain_least(lots))) for fruit, lots in rows))
 
 
 def greatest_rows():
@@ -118,7 +113,7 @@ class Made(unittest.TestCase):
         for round_ in range(200):
             rows = random_rows(rng, ["a", "b", "cc", "cd", "e", "zzzzzzzz"][:rng.randint(0, 6)], 6, 4)
             orchard = made(rows)
-            self.assertEqual(orchard, plain_made(rows))
+            self.assertEqual(orchard, plain_orchard(rows))
             self.assertIs(is_orchard(orchard), True)
             self.assertEqual(made(orchard), orchard)
 
@@ -285,7 +280,7 @@ class Called(unittest.TestCase):
             rows = random_rows(rng, names, 4, 3)
             new = dict(zip(names, rng.sample(["a", "b", "z", "y", "xx", "e", "ca"], 5)))
             told = called(made(rows), new)
-            self.assertEqual(told, plain_made([(new[fruit], [[new[name] for name in lot] for lot in lots])
+            self.assertEqual(told, plain_orchard([(new[fruit], [[new[name] for name in lot] for lot in lots])
                                                for fruit, lots in rows]))
             self.assertIs(is_orchard(told), True)
             self.assertEqual(called(told, {name: fruit for fruit, name in new.items()}), made(rows))
@@ -299,7 +294,7 @@ class Greatest(unittest.TestCase):
     def test_24_fruits_by_6_lots_of_6(self):
         rows = greatest_rows()
         orchard = made(rows)
-        self.assertEqual(orchard, plain_made(rows))
+        self.assertEqual(orchard, plain_orchard(rows))
         self.assertEqual([len(lots) for fruit, lots in orchard], [6] * 24)
         self.assertIs(is_orchard(orchard), True)
         rng = random.Random(45)
@@ -309,7 +304,7 @@ class Greatest(unittest.TestCase):
             self.assertEqual(ripe(orchard, gone), [fruit for fruit in come if fruit not in gone])
             self.assertEqual([fruit for fruit in GREATEST if is_ripe(orchard, fruit, gone)], come)
             rest = [(fruit, [set(lot) - set(gone) for lot in lots]) for fruit, lots in orchard if fruit not in gone]
-            self.assertEqual(gone_from(orchard, gone), plain_made(rest))
+            self.assertEqual(gone_from(orchard, gone), plain_orchard(rest))
         for fruit, lots in rows:
             self.assertEqual(lots_of(orchard, fruit), tuple(plain_least(lots)))
 
