@@ -36,7 +36,7 @@ def behind(orchard, fruit):
     at = 0
     while at < len(found):
         names = sorted({name for lot in lots_of(orchard, found[at]) for name in lot})
-        found.extend([name for name in names if name not in found])
+        found = [*found, *[name for name in names if name not in found]]
         at += 1
     return found
 

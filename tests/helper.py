@@ -4,6 +4,10 @@ import copy
 import itertools
 import random
 
+ANY_TEXTS = ["", "apple", "fi", "figs", "Fig", "fig ", "abcdefghi", "\u00e9", "fig,lime", "\n"]
+TWELVE = "abcdefghijkl"
+GREATEST = "abcdefghijklmnopqrstuvwx"
+
 
 def subsets(names):
     """All rising tuples of some of the names."""
@@ -187,6 +191,15 @@ def check_refused(case, error, what, function, given):
             case.assertIs(type(caught.exception), error)
             check_same(case, caught.exception.what, due)
             check_same(case, turned, untouched)
+
+
+def check_refused_row_not_kept(case, error, function, orchard):
+    """What the refusal has doesn't change with the row that was handed in."""
+    row = ["zz", "yy"]
+    with case.assertRaises(error) as caught:
+        function(orchard, row)
+    row.append("xx")
+    case.assertEqual(caught.exception.what, ["zz", "yy"])
 
 
 def lists_in(thing):

@@ -7,17 +7,15 @@ import unittest
 from ripepicks.coming import comes, latest, needs, shows_stay, soonest, stays
 from ripepicks.errors import NoFruit, Stays
 from ripepicks.orchards import called, made, side_by_side
-from tests.helper import (all_nested, all_rows, any_things, check_manners, check_refused, check_same, coming_rows, fruits_in,
-                          in_lists, in_tuples, plain_orchard, random_rows, ready_by, small_orchards, subsets)
+from tests.helper import (ANY_TEXTS, GREATEST, TWELVE, all_nested, all_rows, any_things, check_manners, check_refused,
+                          check_same, coming_rows, fruits_in, in_lists, in_tuples, plain_orchard, random_rows, ready_by,
+                          small_orchards, subsets)
 
 # The fig from the first on, the kaki never, plum and quince in a ring, the rest by others.
 GROVE = (("fig", ((),)), ("kaki", ()), ("lime", (("fig",), ("kaki",))), ("nut", (("fig", "lime"), ("lime", "kaki"))),
          ("pear", (("kaki", "lime"), ("plum",))), ("plum", (("quince",),)), ("quince", (("fig", "plum"),)))
 GROVE = plain_orchard(GROVE)
 RING = (("a", (("b",),)), ("b", (("c",),)), ("c", (("a",),)))
-ANY_TEXTS = ["", "apple", "fi", "figs", "Fig", "fig ", "abcdefghi", "\u00e9", "fig,lime", "\n"]
-TWELVE = "abcdefghijkl"
-GREATEST = "abcdefghijklmnopqrstuvwx"
 
 
 def plain_comes(orchard):

@@ -8,13 +8,11 @@ import unittest
 from ripepicks.errors import BadFruit, BadLot, NoFruit, Twice
 from ripepicks.lots import meeting
 from ripepicks.orchards import called, gone_from, is_orchard, is_ripe, lots_of, made, ripe, side_by_side
-from tests.helper import (all_nested, any_things, check_manners, families, in_lists, in_tuples, plain_least, plain_orchard,
-                          plain_ripe, random_rows, subsets)
+from tests.helper import (ANY_TEXTS, GREATEST, all_nested, any_things, check_manners, families, in_lists, in_tuples,
+                          plain_least, plain_orchard, plain_ripe, random_rows, subsets)
 
 # The fig from the first on, the kaki never, the lime by the fig, the pear by fig and lime or by the kaki.
 GROVE = (("fig", ((),)), ("kaki", ()), ("lime", (("fig",),)), ("pear", (("fig", "lime"), ("kaki",))))
-ANY_TEXTS = ["", "apple", "fi", "figs", "Fig", "fig ", "abcdefghi", "\u00e9", "fig,lime"]
-GREATEST = "abcdefghijklmnopqrstuvwx"
 
 
 def grove_rows():

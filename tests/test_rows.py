@@ -9,14 +9,13 @@ from ripepicks.errors import NoRow, NotRow
 from ripepicks.orchards import called, gone_from, made, side_by_side
 from ripepicks.picking import pick
 from ripepicks.rows import is_row, number_of, row_at, rows_many
-from tests.helper import (all_likings, all_nested, all_rows, any_things, check_manners, check_refused, check_same,
-                          coming_rows, fruits_in, in_lists, ready_by, small_orchards)
+from tests.helper import (GREATEST, TWELVE, all_likings, all_nested, all_rows, any_things, check_manners, check_refused,
+                          check_refused_row_not_kept, check_same, coming_rows, fruits_in, in_lists, ready_by,
+                          small_orchards)
 
 GROVE = (("fig", ((),)), ("kaki", ()), ("lime", ((),)), ("nut", (("kaki",), ("lime",))), ("pear", (("fig", "nut"),)))
 GROVE_ROWS = [["fig", "lime", "nut", "pear"], ["lime", "fig", "nut", "pear"], ["lime", "nut", "fig", "pear"]]
 NONE_COMES = [(), (("a", ()),), (("a", (("b",),)), ("b", (("a",),)))]
-TWELVE = "abcdefghijkl"
-GREATEST = "abcdefghijklmnopqrstuvwx"
 
 
 def plain_many(orchard):
@@ -118,11 +117,7 @@ class Numbers(unittest.TestCase):
         self.assertEqual(NotRow.__bases__, (ValueError,))
 
     def test_the_refused_row_is_not_kept(self):
-        row = ["lime", "fig"]
-        with self.assertRaises(NotRow) as caught:
-            number_of(GROVE, row)
-        row.append("nut")
-        self.assertEqual(caught.exception.what, ["lime", "fig"])
+        check_refused_row_not_kept(self, NotRow, number_of, GROVE)
 
     def test_manners(self):
         check_manners(self, rows_many, {"orchard": in_lists(GROVE)})

@@ -7,15 +7,14 @@ from ripepicks.errors import NoFruit, NotRow
 from ripepicks.orchards import made
 from ripepicks.picking import passed_by, pick
 from ripepicks.uppers import above, is_sure, ripe_from, uppers
-from tests.helper import (all_likings, all_rows, check_manners, check_refused, check_same, coming_rows, fruits_in, in_lists,
-                          plain_pick, random_rows, ready_by, small_orchards)
+from tests.helper import (ANY_TEXTS, GREATEST, all_likings, all_rows, check_manners, check_refused,
+                          check_refused_row_not_kept, check_same, coming_rows, fruits_in, in_lists, plain_pick,
+                          random_rows, ready_by, small_orchards)
 
 GROVE = (("fig", ((),)), ("kaki", ()), ("lime", ((),)), ("nut", (("kaki",), ("lime",))), ("pear", (("fig", "nut"),)))
 ROW = ["lime", "nut", "fig", "pear"]
 BAD_ROWS = [[], ["lime"], ["lime", "nut", "fig"], ["nut", "lime", "fig", "pear"], [*ROW, "kaki"], [*ROW, "lime"], ["plum"],
             ["lime", "lime", "nut", "fig", "pear"], ["", "x y", "lime"], ["lime", "nut", "fig", "plum"]]
-ANY_TEXTS = ["", "apple", "fi", "figs", "Fig", "fig ", "abcdefghi", "\u00e9", "fig,lime"]
-GREATEST = "abcdefghijklmnopqrstuvwx"
 
 
 def plain_uppers(orchard, row):
@@ -130,11 +129,7 @@ class Refused(unittest.TestCase):
         self.assertEqual(NoFruit.__bases__, (LookupError,))
 
     def test_the_refused_row_is_not_kept(self):
-        row = ["lime", "fig"]
-        with self.assertRaises(NotRow) as caught:
-            uppers(GROVE, row)
-        row.append("nut")
-        self.assertEqual(caught.exception.what, ["lime", "fig"])
+        check_refused_row_not_kept(self, NotRow, uppers, GROVE)
 
 
 class Greatest(unittest.TestCase):
