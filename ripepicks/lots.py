@@ -8,6 +8,11 @@ def is_lot(thing):
     return isinstance(thing, tuple) and all([is_name(each) for each in thing]) and rises(thing)
 
 
+def as_lot(names):
+    """The LOT of unlike NAMEs in any order."""
+    return tuple(sorted(names))
+
+
 def is_within(one, other):
     """Whether all of the one LOT are in the other."""
     return all([name in other for name in one])
@@ -49,7 +54,7 @@ def meeting(lots):
     found = [()]
     for at, lot in enumerate(rising):
         found = met_too(found, lot, at, met)
-    return sorted([tuple(sorted(names)) for names in found])
+    return sorted([as_lot(names) for names in found])
 
 
 def met_by(lots):

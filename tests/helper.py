@@ -8,6 +8,13 @@ ANY_TEXTS = ["", "apple", "fi", "figs", "Fig", "fig ", "abcdefghi", "\u00e9", "f
 TWELVE = "abcdefghijkl"
 GREATEST = "abcdefghijklmnopqrstuvwx"
 
+# The fig and the lime from the first on, the kaki never, the nut by the lime, the pear by fig and nut.
+GROVE = (("fig", ((),)), ("kaki", ()), ("lime", ((),)), ("nut", (("kaki",), ("lime",))), ("pear", (("fig", "nut"),)))
+ROW = ["lime", "nut", "fig", "pear"]
+LIKING = ("pear", "kaki", "nut", "lime", "fig")
+BAD_ROWS = [[], ["lime"], ["lime", "nut", "fig"], ["nut", "lime", "fig", "pear"], [*ROW, "kaki"], [*ROW, "lime"], ["plum"],
+            ["lime", "lime", "nut", "fig", "pear"], ["", "x y", "lime"], ["lime", "nut", "fig", "plum"]]
+
 
 def subsets(names):
     """All rising tuples of some of the names."""
@@ -116,6 +123,14 @@ def all_likings(orchard):
     return list(itertools.permutations(fruits_in(orchard)))
 
 
+def leading(orchard):
+    """For each row, as a tuple, the list of all LIKINGs whose picking it is, as tuples rise."""
+    found = {}
+    for liking in all_likings(orchard):
+        found.setdefault(tuple(plain_pick(orchard, liking)), []).append(liking)
+    return found
+
+
 def in_lists(thing):
     """The same with lists for tuples, at any depth."""
     return [in_lists(each) for each in thing] if isinstance(thing, (list, tuple)) else thing
@@ -124,6 +139,59 @@ def in_lists(thing):
 def in_tuples(thing):
     """The same with tuples for lists, at any depth."""
     return tuple(in_tuples(each) for each in thing) if isinstance(thing, (list, tuple)) else thing
+
+
+def all_pickings(names):
+    """All PICKINGs of these fruits."""
+    rows = [list(row) for size in range(len(names) + 1) for row in itertools.permutations(names, size)]
+    return [(liking, list(row)) for liking in itertools.permutations(names) for row in rows]
+
+
+class Unseen:
+    """All ORCHARDs of few fruits, and which of them have which PICKINGs."""
+
+    def __init__(self, names):
+        self.names = sorted(names)
+        self.orchards = all_orchards(names)
+        self.having = {}
+        for at, orchard in enumerate(self.orchards):
+            for liking in itertools.permutations(names):
+                self.having.setdefault((liking, tuple(plain_pick(orchard, liking))), set()).add(at)
+
+    def with_all(self, pickings):
+        """The list of those ORCHARDs that have all of them."""
+        sets = [self.having.get((tuple(liking), tuple(row)), set()) for liking, row in pickings]
+        return [self.orchards[at] for at in sorted(set.intersection(*sets))]
+
+    def samples(self, seed, many):
+        """Lists of one or more PICKINGs: each one alone, each two, and so many of more, most of one ORCHARD."""
+        every = all_pickings(self.names)
+        yield from [[one] for one in every]
+        yield from [[one, other] for one in every for other in every]
+        rng = random.Random(seed)
+        for round_ in range(many):
+            orchard = rng.choice(self.orchards)
+            likings = [tuple(rng.sample(self.names, len(self.names))) for each in range(rng.randint(3, 6))]
+            pickings = [(liking, plain_pick(orchard, liking)) for liking in likings]
+            if rng.random() < 0.6:
+                pickings[rng.randrange(len(pickings))] = rng.choice(every)
+            yield pickings
+
+
+def some_unseen():
+    """Unseen ORCHARDs of none to three fruits."""
+    return [Unseen(["cc", "a", "b"][:size]) for size in range(4)]
+
+
+def variants(thing):
+    """Things much like it: each part, at any depth, of another kind, left out or there twice."""
+    found = [None, True, False, 0, 1, 2, -1, "", "a", "A", "zz", [], (), ["a"], ("a",), [[]], ((),), ["a", "b"]]
+    if isinstance(thing, (list, tuple)):
+        found += [list(thing), tuple(thing), [*thing, *thing]]
+        for at, part in enumerate(thing):
+            found += [thing[:at] + thing[at + 1:], thing[:at + 1] + thing[at:]]
+            found += [type(thing)([*thing[:at], each, *thing[at + 1:]]) for each in variants(part)]
+    return found
 
 
 def nested(thing, depth, kinds):
@@ -179,12 +247,15 @@ def check_same(case, told, due):
     case.assertEqual(repr(told), repr(due))
 
 
-def check_refused(case, error, what, function, given):
-    """Refused with the error's very class and what, by place and by name, with lists and with tuples; all unchanged."""
+def check_refused(case, error, what, function, given, told=False):
+    """Refused with the error's very class and what, by place and by name, with lists and with tuples; all unchanged.
+
+    What isn't handed in but told is of the same kinds, whatever is handed in.
+    """
     for other in (copy.deepcopy, in_lists, in_tuples):
         turned = {word: other(thing) for word, thing in given.items()}
         untouched = copy.deepcopy(turned)
-        due = other(what)
+        due = what if told else other(what)
         for ask in (lambda: function(**turned), lambda: function(*turned.values())):
             with case.assertRaises(error) as caught:
                 ask()

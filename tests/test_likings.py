@@ -9,25 +9,11 @@ from ripepicks.likings import astray, leads, liking_at, liking_number, likings_m
 from ripepicks.orchards import called, gone_from, made
 from ripepicks.picking import pick
 from ripepicks.uppers import uppers
-from tests.helper import (GREATEST, all_likings, all_rows, check_manners, check_refused, check_refused_row_not_kept,
-                          check_same, coming_rows, fruits_in, in_lists, plain_pick, random_rows, ready_by,
-                          small_orchards)
+from tests.helper import (BAD_ROWS, GREATEST, GROVE, LIKING, ROW, all_likings, all_rows, check_manners, check_refused,
+                          check_refused_row_not_kept, check_same, coming_rows, fruits_in, in_lists, leading, plain_pick,
+                          random_rows, ready_by, small_orchards)
 
-# The fig and the lime from the first on, the kaki never, the nut by the lime, the pear by fig and nut.
-GROVE = (("fig", ((),)), ("kaki", ()), ("lime", ((),)), ("nut", (("kaki",), ("lime",))), ("pear", (("fig", "nut"),)))
-ROW = ["lime", "nut", "fig", "pear"]
-LIKING = ("pear", "kaki", "nut", "lime", "fig")
-BAD_ROWS = [[], ["lime"], ["lime", "nut", "fig"], ["nut", "lime", "fig", "pear"], [*ROW, "kaki"], [*ROW, "lime"], ["plum"],
-            ["lime", "lime", "nut", "fig", "pear"], ["", "x y", "lime"], ["lime", "nut", "fig", "plum"]]
 NONE_COMES = [(), (("a", ()),), (("a", (("b",),)), ("b", (("a",),)), ("c", ()))]
-
-
-def leading(orchard):
-    """For each row, as a tuple, the list of all LIKINGs whose picking it is, as tuples rise."""
-    found = {}
-    for liking in all_likings(orchard):
-        found.setdefault(tuple(plain_pick(orchard, liking)), []).append(liking)
-    return found
 
 
 def plain_astray(orchard, row, liking):
@@ -128,17 +114,8 @@ class Numbers(unittest.TestCase):
             if pair is None:
                 self.assertEqual(liking_at(GROVE, ROW, liking_number(**given)), liking)
             else:
-                self.check_astray(pair, given)
+                check_refused(self, Astray, pair, liking_number, given, told=True)
         self.assertEqual(Astray.__bases__, (ValueError,))
-
-    def check_astray(self, pair, given):
-        # The pair is told, not handed in: a tuple, also where lists are handed in.
-        for row in (given["row"], tuple(given["row"])):
-            for liking in (given["liking"], list(given["liking"])):
-                with self.assertRaises(Astray) as caught:
-                    liking_number(given["orchard"], row, liking)
-                self.assertIs(type(caught.exception), Astray)
-                check_same(self, caught.exception.what, pair)
 
     def test_not_row_first(self):
         wrong = ("fig", "kaki", "lime", "nut", "pear")

@@ -7,13 +7,9 @@ import unittest
 from ripepicks.errors import NoFruit
 from ripepicks.orchards import made
 from ripepicks.picking import is_liking, passed_by, pick, turn_of
-from tests.helper import (ANY_TEXTS, GREATEST, all_likings, all_nested, any_things, check_manners, check_refused,
-                          check_same, coming_rows, fruits_in, in_lists, plain_pick, random_rows, ready_by,
+from tests.helper import (ANY_TEXTS, GREATEST, GROVE, LIKING, all_likings, all_nested, any_things, check_manners,
+                          check_refused, check_same, coming_rows, fruits_in, in_lists, plain_pick, random_rows, ready_by,
                           small_orchards)
-
-# The fig and the lime from the first on, the kaki never, the nut by the lime, the pear by fig and nut.
-GROVE = (("fig", ((),)), ("kaki", ()), ("lime", ((),)), ("nut", (("kaki",), ("lime",))), ("pear", (("fig", "nut"),)))
-LIKING = ("pear", "kaki", "nut", "lime", "fig")
 
 
 class IsLiking(unittest.TestCase):

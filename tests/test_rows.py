@@ -9,11 +9,10 @@ from ripepicks.errors import NoRow, NotRow
 from ripepicks.orchards import called, gone_from, made, side_by_side
 from ripepicks.picking import pick
 from ripepicks.rows import is_row, number_of, row_at, rows_many
-from tests.helper import (GREATEST, TWELVE, all_likings, all_nested, all_rows, any_things, check_manners, check_refused,
-                          check_refused_row_not_kept, check_same, coming_rows, fruits_in, in_lists, ready_by,
-                          small_orchards)
+from tests.helper import (GREATEST, GROVE, TWELVE, all_likings, all_nested, all_rows, any_things, check_manners,
+                          check_refused, check_refused_row_not_kept, check_same, coming_rows, fruits_in, in_lists,
+                          ready_by, small_orchards)
 
-GROVE = (("fig", ((),)), ("kaki", ()), ("lime", ((),)), ("nut", (("kaki",), ("lime",))), ("pear", (("fig", "nut"),)))
 GROVE_ROWS = [["fig", "lime", "nut", "pear"], ["lime", "fig", "nut", "pear"], ["lime", "nut", "fig", "pear"]]
 NONE_COMES = [(), (("a", ()),), (("a", (("b",),)), ("b", (("a",),)))]
 

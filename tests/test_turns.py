@@ -6,12 +6,8 @@ import unittest
 from ripepicks.errors import NoFruit
 from ripepicks.orchards import made
 from ripepicks.turns import placed, rearmost, steps, turn_at
-from tests.helper import (ANY_TEXTS, GREATEST, all_likings, check_manners, check_refused, check_same, coming_rows,
-                          fruits_in, in_lists, plain_pick, random_rows, small_orchards)
-
-# The fig and the lime from the first on, the kaki never, the nut by the lime, the pear by fig and nut.
-GROVE = (("fig", ((),)), ("kaki", ()), ("lime", ((),)), ("nut", (("kaki",), ("lime",))), ("pear", (("fig", "nut"),)))
-LIKING = ("pear", "kaki", "nut", "lime", "fig")
+from tests.helper import (ANY_TEXTS, GREATEST, GROVE, LIKING, all_likings, check_manners, check_refused, check_same,
+                          coming_rows, fruits_in, in_lists, plain_pick, random_rows, small_orchards)
 
 
 def moved(liking, fruit, place):

@@ -7,14 +7,9 @@ from ripepicks.errors import NoFruit, NotRow
 from ripepicks.orchards import made
 from ripepicks.picking import passed_by, pick
 from ripepicks.uppers import above, is_sure, ripe_from, uppers
-from tests.helper import (ANY_TEXTS, GREATEST, all_likings, all_rows, check_manners, check_refused,
-                          check_refused_row_not_kept, check_same, coming_rows, fruits_in, in_lists, plain_pick,
-                          random_rows, ready_by, small_orchards)
-
-GROVE = (("fig", ((),)), ("kaki", ()), ("lime", ((),)), ("nut", (("kaki",), ("lime",))), ("pear", (("fig", "nut"),)))
-ROW = ["lime", "nut", "fig", "pear"]
-BAD_ROWS = [[], ["lime"], ["lime", "nut", "fig"], ["nut", "lime", "fig", "pear"], [*ROW, "kaki"], [*ROW, "lime"], ["plum"],
-            ["lime", "lime", "nut", "fig", "pear"], ["", "x y", "lime"], ["lime", "nut", "fig", "plum"]]
+from tests.helper import (ANY_TEXTS, BAD_ROWS, GREATEST, GROVE, ROW, all_likings, all_rows, check_manners, check_refused,
+                          check_refused_row_not_kept, check_same, coming_rows, fruits_in, in_lists, leading, random_rows,
+                          ready_by, small_orchards)
 
 
 def plain_uppers(orchard, row):
@@ -85,10 +80,7 @@ class Uppers(unittest.TestCase):
 
     def test_sure_is_so_in_each_liking(self):
         for orchard in small_orchards(29, 40):
-            leading = {}
-            for liking in all_likings(orchard):
-                leading.setdefault(tuple(plain_pick(orchard, liking)), []).append(liking)
-            for row, likings in leading.items():
+            for row, likings in leading(orchard).items():
                 for one in fruits_in(orchard):
                     self.assertIs(is_sure(orchard, list(row), one, one), False)
                     for other in fruits_in(orchard):
