@@ -35,12 +35,15 @@ def soonest_hung(pickings):
     """The ORCHARD where each has the least LOTs of other fruits that lie within no not_by of its own; Clash."""
     refuse_clash(pickings)
     fruits = fruits_in(pickings)
-    return hung([(fruit, least_outside(others(fruits, fruit), all_not_by(pickings, fruit))) for fruit in fruits])
+    return tuple([(fruit, least_outside(others(fruits, fruit), all_not_by(pickings, fruit))) for fruit in fruits])
 
 
 def least_outside(names, lots):
-    """The list of the least LOTs of these NAMEs that lie within none of the LOTs: each has one that this hasn't."""
-    return meeting([without(names, lot) for lot in lots])
+    """The rising tuple of the least LOTs of these NAMEs that lie within none of the LOTs.
+
+    Each of them has one of those NAMEs that a LOT hasn't, of each of the LOTs.
+    """
+    return tuple(meeting([without(names, lot) for lot in lots]))
 
 
 def ripe_by(pickings, fruit, gone):

@@ -14,7 +14,7 @@ class Strife:
         self.ranks = {fruit: at for at, fruit in enumerate(liking)}
         self.better = {fruit: [each for each in chain(upper, fruit) if self.ranks[each] < self.ranks[fruit]]
                        for fruit in upper}
-        self.prices = {fruit: price for fruit, price in prices if fruit in upper}
+        self.prices = {fruit: price for fruit, price in prices}
 
     def is_pair(self, thing):
         """Whether it's a pair of an amount and a row of strife."""

@@ -50,19 +50,20 @@ def known(picking, fruit):
     return (as_lot(ahead), as_lot(ahead[:worse[-1]]) if worse else None)
 
 
-def is_clash(one, other, fruit):
-    """Whether the one PICKING's by of the fruit is within the other's not_by."""
-    by = known(one, fruit)[0]
-    not_by = known(other, fruit)[1]
+def is_clash(one, other):
+    """Whether the by of the one pair (by, not_by) is within the not_by of the other."""
+    by = one[0]
+    not_by = other[1]
     return by is not None and not_by is not None and is_within(by, not_by)
 
 
 def clash(pickings):
     """The first triple (fruit, one, other) that shows that no ORCHARD has all of the PICKINGS, None where one has."""
     for fruit in fruits_in(pickings):
-        for one, by in enumerate(pickings):
-            for other, not_by in enumerate(pickings):
-                if is_clash(by, not_by, fruit):
+        told = [known(picking, fruit) for picking in pickings]
+        for one, pair in enumerate(told):
+            for other, against in enumerate(told):
+                if is_clash(pair, against):
                     return (fruit, one, other)
     return None
 
@@ -74,7 +75,7 @@ def shows_clash(pickings, thing):
     fruit, one, other = thing
     if fruit not in fruits_in(pickings) or not all([is_place(each, pickings) for each in (one, other)]):
         return False
-    return is_clash(pickings[one], pickings[other], fruit)
+    return is_clash(known(pickings[one], fruit), known(pickings[other], fruit))
 
 
 def is_place(thing, pickings):

@@ -100,6 +100,46 @@ class Files(unittest.TestCase):
         places = [(name, node.lineno) for name, node in nodes() if isinstance(node, ast.Lambda)]
         self.assertEqual(len(set(places)), len(places))
 
+    def test_iterated_at_once(self):
+        lazy = {"zip", "enumerate", "reversed", "range", "items", "keys", "values"}
+        takers = {"list", "tuple", "dict", "sorted", "sum", "any", "all", "enumerate", "zip"}
+        for name, node in nodes():
+            for field, child in [(field, each) for field, part in ast.iter_fields(node)
+                                 for each in (part if isinstance(part, list) else [part]) if isinstance(each, ast.Call)]:
+                if getattr(child.func, "id", getattr(child.func, "attr", None)) in lazy:
+                    taken = isinstance(node, ast.Call) and field == "args" and getattr(node.func, "id", None) in takers
+                    self.assertTrue(taken or field == "iter", (name, child.lineno))
+
+    def test_finally_only_ends_the_log(self):
+        for name, node in nodes():
+            for each in node.finalbody if isinstance(node, ast.Try) else []:
+                self.assertRegex(ast.unparse(each), r"\Aself[.]ends[.]append[(][(]'out', '[a-z]+'[)][)]\Z", name)
+
+    def test_double_underscore_methods(self):
+        # No operator stands among them: beside one, far fewer signs could be used in all files.
+        allowed = {"__init__", "__eq__", "__len__", "__repr__"}
+        for name, node in nodes():
+            if isinstance(node, ast.FunctionDef) and node.name.startswith("__"):
+                self.assertIn(node.name, allowed, name)
+                if node.name in ("__eq__", "__len__", "__repr__"):
+                    self.assertEqual([type(each) for each in node.body], [ast.Return], (name, node.name))
+
+    def test_own_errors_alone_are_caught_and_made_on_the_spot(self):
+        own = {node.name for node in ast.parse((PACKAGE / "errors.py").read_text()).body if isinstance(node, ast.ClassDef)}
+        for name, node in nodes():
+            if isinstance(node, ast.ExceptHandler):
+                self.assertIn(node.type.id, own, name)
+            if isinstance(node, ast.Raise):
+                self.assertIsInstance(node.exc, ast.Call, name)
+                self.assertIn(node.exc.func.id, own, name)
+
+    def test_tables_at_module_level_are_flat(self):
+        for name, text in files():
+            for node in ast.parse(text).body:
+                if isinstance(node, ast.Assign) and isinstance(node.value, (ast.Dict, ast.List)):
+                    inner = [each for each in ast.walk(node.value) if each != node.value]
+                    self.assertEqual([each for each in inner if isinstance(each, (ast.Dict, ast.List, ast.Call))], [], name)
+
     def test_no_barred_syntax(self):
         # Generator expressions are let go beside a class with __eq__ only in few places: none is used.
         barred = (ast.GeneratorExp, ast.Global, ast.AsyncFunctionDef, ast.Await, ast.Div, ast.Pow, ast.AnnAssign)
